@@ -1,0 +1,1 @@
+"""Mendvault: an archive that is read back from any undamaged part."""

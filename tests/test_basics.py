@@ -1,0 +1,146 @@
+"""Promise [1], of all functions that there are: what they take, what they return."""
+
+import copy
+import inspect
+import unittest
+
+from mendvault import codes, errors, field, polys
+
+# For each function: its parameters, then calls of it, each with what it returns or raises.
+CALLS = (
+    (field.added, ("a", "b"), (((0, 127), 127), ((9, 9), 0))),
+    (field.times, ("a", "b"), (((64, 2), 3), ((1, 0), 0))),
+    (field.inverse, ("a",), (((1,), 1), ((0,), ("BadValue", {"at": 0})))),
+    (field.over, ("a", "b"), (((3, 64), 2), ((0, 5), 0), ((5, 0), ("BadValue", {"at": 1})))),
+    (field.power, ("a", "n"), (((2, 7), 3), ((0, 0), 1), ((0, 1), 0))),
+    (field.logarithm, ("a",), (((3,), 7), ((1,), 0), ((0,), ("BadValue", {"at": 0})))),
+    (polys.trimmed, ("row",), ((((1, 0),), (1,)), (((0,),), ()), (((1, 2),), (1, 2)), (((),), ()))),
+    (polys.poly_added, ("p", "q"), ((((1, 2), (1,)), (0, 2)), (((1,), ()), (1,)), (((1,), (1,)), ()))),
+    (polys.poly_times, ("p", "q"), ((((1, 1), (1, 1)), (1, 0, 1)), (((1,), ()), ()), (((), ()), ()))),
+    (polys.poly_value, ("p", "x"), ((((5, 7), 1), 2), (((), 1), 0))),
+    (
+        polys.poly_divided,
+        ("p", "q"),
+        (
+            (((0, 0, 1), (1, 1)), ((1, 1), (1,))),
+            (((7,), (1, 2)), ((), (7,))),
+            (((), (1,)), ((), ())),
+            (((1,), ()), ("BadValue", {"at": 1})),
+        ),
+    ),
+    (
+        polys.poly_through,
+        ("points",),
+        (
+            ((((0, 1), (1, 0)),), (1, 1)),
+            (((),), ()),
+            ((((0, 1), (0, 1)),), ("BadValue", {"at": 0})),
+        ),
+    ),
+    (codes.encoded, ("data", "r"), ((((0, 1), 2), (0, 1, 2, 3)), (((4, 5), 0), (4, 5)))),
+    (
+        codes.filled,
+        ("symbols", "k"),
+        (
+            (((None, 1, 2), 2), (0, 1, 2)),
+            (((0, 1, 2), 3), (0, 1, 2)),
+            (((None, 1), 2), ("Beyond", {"word": "lost"})),
+            (((0, 1, 1), 2), ("Beyond", {"word": "parted"})),
+        ),
+    ),
+    (
+        codes.corrected,
+        ("symbols", "k"),
+        (
+            (((0, 1, None, 9, 4), 2), ((0, 1, 2, 3, 4), (3,))),
+            (((0, 1, 2), 3), ((0, 1, 2), ())),
+            (((None, 1), 2), ("Beyond", {"word": "lost"})),
+            (((0, 1, 1), 2), ("Beyond", {"word": "far"})),
+        ),
+    ),
+)
+
+
+def as_lists(value):
+    """The value with a list in place of each tuple, also within."""
+    return [as_lists(each) for each in value] if isinstance(value, tuple) else value
+
+
+def outcome(function, arguments, names):
+    """What a call returns, or the class and the attributes of what it raises."""
+    try:
+        return function(*arguments, **names)
+    except errors.VaultError as error:
+        return type(error).__name__, vars(error)
+
+
+def spoiled(value):
+    """Changes all lists within the value."""
+    for each in value:
+        if isinstance(each, list):
+            spoiled(each)
+    value.append(99)
+
+
+# Each call by itself: the function, its parameters, the arguments, what comes of it.
+CASES = [
+    (function, names, arguments, expected) for function, names, calls in CALLS for arguments, expected in calls
+]
+
+
+class BasicsTest(unittest.TestCase):
+    def assert_same(self, value, expected, function):
+        """Alike also in kind: no list in place of a tuple, no bool in place of an integer."""
+        self.assertEqual(value, expected, function)
+        self.assertIs(type(value), type(expected), function)
+        if isinstance(value, tuple):
+            for one, other in zip(value, expected):
+                self.assert_same(one, other, function)
+
+    def test_by_position(self):
+        for function, _, arguments, expected in CASES:
+            self.assert_same(outcome(function, arguments, {}), expected, function)
+
+    def test_by_name(self):
+        for function, names, arguments, expected in CASES:
+            self.assert_same(outcome(function, (), dict(zip(names, arguments))), expected, function)
+
+    def test_lists_in_place_of_tuples(self):
+        for function, _, arguments, expected in CASES:
+            self.assert_same(outcome(function, as_lists(arguments), {}), expected, function)
+
+    def test_one_list_beside_tuples(self):
+        for function, _, arguments, expected in CASES:
+            for at, argument in enumerate(arguments):
+                mixed = arguments[:at] + (as_lists(argument),) + arguments[at + 1:]
+                self.assert_same(outcome(function, mixed, {}), expected, function)
+
+    def test_arguments_stay_as_they_were(self):
+        for function, _, arguments, _ in CASES:
+            lists = as_lists(arguments)
+            before = copy.deepcopy(lists)
+            outcome(function, lists, {})
+            self.assertEqual(lists, before, function)
+
+    def test_later_changes_have_no_effect(self):
+        for function, _, arguments, expected in CASES:
+            lists = as_lists(arguments)
+            result = outcome(function, lists, {})
+            spoiled(lists)
+            self.assert_same(result, expected, function)
+            self.assert_same(outcome(function, arguments, {}), expected, function)
+
+    def test_equal_calls_return_equal_results(self):
+        for function, _, arguments, expected in CASES + CASES[::-1]:
+            self.assert_same(outcome(function, arguments, {}), expected, function)
+
+    def test_all_functions_take_just_these_names(self):
+        for function, names, _ in CALLS:
+            parameters = inspect.signature(function).parameters.values()
+            self.assertEqual(tuple(each.name for each in parameters), names, function)
+            self.assertEqual({each.default for each in parameters}, {inspect.Parameter.empty}, function)
+
+    def test_all_functions_are_defined_in_their_module(self):
+        for function, _, _ in CALLS:
+            file = function.__code__.co_filename
+            self.assertTrue(file.endswith(function.__module__.replace(".", "/") + ".py"), function)

@@ -1,6 +1,7 @@
 """Codes: words are the values of a polynomial of at most k coefficients at the points 0, 1, .. k + r - 1."""
 
 from mendvault.errors import Beyond
+from mendvault.field import added, over, times
 from mendvault.polys import poly_added, poly_divided, poly_through, poly_times, poly_value
 
 
@@ -71,3 +72,18 @@ def nearest(points, k):
         elder_factor, factor = factor, poly_added(elder_factor, poly_times(quotient, factor))
     poly, _ = poly_divided(rest, factor)
     return poly
+
+
+def weights(places, x):
+    """What the symbols at these k places are multiplied by so that their sum is the word's symbol at x.
+
+    These are the values at x of the polynomials that are 1 at one of the places and 0 at the others.
+    """
+    out = []
+    for place in places:
+        share = 1
+        for other in places:
+            if other != place:
+                share = times(share, over(added(x, other), added(place, other)))
+        out.append(share)
+    return tuple(out)

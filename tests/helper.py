@@ -3,6 +3,14 @@
 import itertools
 import random
 
+from mendvault.errors import VaultError
+
+# All signs, by their ASCII numbers.
+SIGNS = "\n" + "".join(chr(number) for number in range(32, 127) if number != 37)
+
+# All pairs of k and r that a vault may have.
+LAYOUTS = [(k, r) for k in range(1, 7) for r in range(5)]
+
 # All pairs of k and r that the document lets.
 SIZES = [(k, r) for k in range(1, 17) for r in range(17 - k)]
 
@@ -107,3 +115,72 @@ def changed_at(word, places, random_source):
 
 def fixed_random(seed):
     return random.Random(seed)
+
+
+def some_text(random_source, many):
+    return "".join(random_source.choice(SIGNS) for _ in range(many))
+
+
+def slow_sum(row):
+    """The sum of a row, by dividing the polynomial of its bits."""
+    bits = [symbol >> bit & 1 for symbol in row for bit in range(6, -1, -1)] + [0] * 28
+    bits[:28] = [1 - bit for bit in bits[:28]]
+    for at in range(len(bits) - 28):
+        if bits[at]:
+            for power in (28, 3, 0):
+                bits[at + 28 - power] ^= 1
+    return int("".join(str(bit) for bit in bits[-28:]), 2)
+
+
+def slow_sum_row(row):
+    number = slow_sum(row)
+    return (number // 128 ** 3, number // 128 ** 2 % 128, number // 128 % 128, number % 128)
+
+
+def sealed(symbols):
+    """The 48 integers with these 43 symbols between the mark and the sum."""
+    return (128,) + tuple(symbols) + slow_sum_row(symbols)
+
+
+def slow_row(volume, k, r, epoch, stripe, used, last, number, payload):
+    """The 48 integers of a block, or what they would be of one with values that are none."""
+    head = (volume, k, r, *divmod(epoch, 128), *divmod(stripe, 128), *divmod(used, 128), last, *divmod(number, 128))
+    return sealed(head + tuple(payload))
+
+
+def slow_striped(text, k, r, epoch, stripe, number):
+    """The rows of the blocks of a text."""
+    size = 31 * k
+    rows = []
+    for begin in range(0, len(text), size):
+        signs = [ord(sign) for sign in text[begin:begin + size]]
+        last = 1 if begin + size >= len(text) else 0
+        full = signs + [0] * (size - len(signs))
+        words = [slow_through([(v, full[31 * v + at]) for v in range(k)], k + r) for at in range(31)]
+        for volume in range(k + r):
+            payload = [word[volume] for word in words]
+            rows.append(slow_row(volume, k, r, epoch, stripe, len(signs), last, number, payload))
+        stripe += 1
+    return rows
+
+
+def raised(function, *arguments):
+    """The name and the argument of the error that a call raises, or None if it raises none."""
+    try:
+        function(*arguments)
+    except VaultError as error:
+        return type(error).__name__, *vars(error).values()
+    return None
+
+
+def as_lists(value):
+    """The value with a list in place of each tuple, also within."""
+    return [as_lists(each) for each in value] if isinstance(value, tuple) else value
+
+
+def spoiled(value):
+    """Changes all lists within the value."""
+    for each in value:
+        if isinstance(each, list):
+            spoiled(each)
+    value.append(99)

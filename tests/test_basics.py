@@ -4,7 +4,16 @@ import copy
 import inspect
 import unittest
 
-from mendvault import codes, errors, field, polys
+from mendvault import blocks, codes, errors, field, finding, polys, stripes, sums
+from tests.helper import as_lists, slow_row, slow_striped, spoiled
+
+# The values of a block, and its row.
+VALUES = (2, 2, 1, 300, 4, 62, 1, 6, tuple(range(31)))
+ROW = slow_row(*VALUES)
+
+# The blocks of a text of one stripe.
+STRIPE = tuple(blocks.Block(v, 2, 1, 3, 4, 5, 1, 6, row[13:44]) for v, row in
+               enumerate(slow_striped("hello", 2, 1, 3, 4, 6)))
 
 # For each function: its parameters, then calls of it, each with what it returns or raises.
 CALLS = (
@@ -58,12 +67,41 @@ CALLS = (
             (((0, 1, 1), 2), ("Beyond", {"word": "far"})),
         ),
     ),
+    (sums.summed, ("row",), ((((127,) * 4,), 0), (((),), 268435455))),
+    (sums.joined, ("one", "other", "length"), (((0, 268435455, 0), 0), ((268435455, 7, 9), 7))),
+    (sums.sum_row, ("number",), (((129,), (0, 0, 1, 1)), ((0,), (0, 0, 0, 0)))),
+    (sums.text_sum, ("text",), ((("",), 268435455),)),
+    (
+        blocks.Block,
+        ("volume", "k", "r", "epoch", "stripe", "used", "last", "number", "payload"),
+        (
+            (VALUES, blocks.Block(*VALUES)),
+            ((3,) + VALUES[1:], ("BadValue", {"at": 0})),
+            (VALUES[:8] + ((1, 2, 3),), ("BadValue", {"at": 8})),
+        ),
+    ),
+    (blocks.read_block, ("row",), (((ROW,), blocks.Block(*VALUES)), ((ROW[1:],), None), (((),), None))),
+    (finding.found, ("piece",), ((((7,) + ROW,), ((1, blocks.Block(*VALUES)),)), (((),), ()))),
+    (finding.gaps, ("piece",), ((((7,) + ROW,), ((0, 1),)), ((ROW,), ()), (((),), ()))),
+    (
+        stripes.striped,
+        ("text", "k", "r", "epoch", "stripe", "number"),
+        (
+            (("hello", 2, 1, 3, 4, 6), STRIPE),
+            (("", 2, 1, 3, 4, 6), ("BadValue", {"at": 0})),
+            (("hello", 2, 1, 3, 4, -1), ("BadValue", {"at": 5})),
+        ),
+    ),
+    (
+        stripes.joined_stripe,
+        ("blocks",),
+        (
+            ((STRIPE[1:],), ("hello", STRIPE)),
+            (((),), ("Beyond", {"word": "lost"})),
+            ((STRIPE[:1] * 2,), ("Beyond", {"word": "parted"})),
+        ),
+    ),
 )
-
-
-def as_lists(value):
-    """The value with a list in place of each tuple, also within."""
-    return [as_lists(each) for each in value] if isinstance(value, tuple) else value
 
 
 def outcome(function, arguments, names):
@@ -74,12 +112,9 @@ def outcome(function, arguments, names):
         return type(error).__name__, vars(error)
 
 
-def spoiled(value):
-    """Changes all lists within the value."""
-    for each in value:
-        if isinstance(each, list):
-            spoiled(each)
-    value.append(99)
+def code_of(function):
+    """Where the function, or what makes an object of the class, stands."""
+    return (function.__init__ if inspect.isclass(function) else function).__code__
 
 
 # Each call by itself: the function, its parameters, the arguments, what comes of it.
@@ -142,5 +177,5 @@ class BasicsTest(unittest.TestCase):
 
     def test_all_functions_are_defined_in_their_module(self):
         for function, _, _ in CALLS:
-            file = function.__code__.co_filename
+            file = code_of(function).co_filename
             self.assertTrue(file.endswith(function.__module__.replace(".", "/") + ".py"), function)

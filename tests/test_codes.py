@@ -3,13 +3,14 @@
 import itertools
 import unittest
 
-from mendvault.codes import corrected, encoded, filled
+from mendvault.codes import corrected, encoded, filled, weights
 from mendvault.errors import Beyond
 from tests.helper import (
     SIZES,
     changed_at,
     fixed_random,
     slow_near,
+    slow_times,
     slow_word,
     some_polynomial,
     some_row,
@@ -214,6 +215,22 @@ class CorrectedTest(CodesTest):
 
     def test_lost_comes_ahead_of_far(self):
         self.assert_beyond("lost", corrected, (0, None, 9, None), 3)
+
+
+class WeightsTest(CodesTest):
+    def test_they_give_the_symbols_of_words(self):
+        for k, r in SIZES:
+            word = some_word(self.random, k, r)
+            places = self.random.sample(range(k + r), k)
+            for x in range(k + r):
+                symbol = 0
+                for place, weight in zip(places, weights(places, x)):
+                    symbol ^= slow_times(word[place], weight)
+                self.assertEqual(symbol, word[x])
+
+    def test_at_one_of_the_places(self):
+        self.assertEqual(weights((3, 5, 0), 5), (0, 1, 0))
+        self.assertEqual(weights([7], 9), (1,))
 
 
 # The cases stand in the classes above; the one that they share has none.

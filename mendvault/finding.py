@@ -1,0 +1,32 @@
+"""Finding the blocks in a piece, and what lies between them."""
+
+from mendvault.blocks import MARK, SIZE, read_block
+
+
+def found(piece):
+    """The pairs (place, block) of the blocks in the piece, from the left."""
+    out = []
+    place = 0
+    while place < len(piece):
+        block = None
+        if piece[place] == MARK:
+            block = read_block(piece[place:place + SIZE])
+        if block is None:
+            place = place + 1
+        else:
+            out.append((place, block))
+            place = place + SIZE
+    return tuple(out)
+
+
+def gaps(piece):
+    """The pairs (begin, end) of the runs that are in no block found."""
+    out = []
+    begin = 0
+    for place, _ in found(piece):
+        if begin < place:
+            out.append((begin, place))
+        begin = place + SIZE
+    if begin < len(piece):
+        out.append((begin, len(piece)))
+    return tuple(out)

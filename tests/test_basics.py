@@ -4,7 +4,20 @@ import copy
 import inspect
 import unittest
 
-from mendvault import blocks, codes, errors, field, finding, polys, stripes, sums
+from mendvault import (
+    blocks,
+    codes,
+    errors,
+    field,
+    finding,
+    polys,
+    records,
+    states,
+    stripes,
+    sums,
+    vaults,
+    writing,
+)
 from tests.helper import as_lists, slow_row, slow_striped, spoiled
 
 # The values of a block, and its row.
@@ -14,6 +27,16 @@ ROW = slow_row(*VALUES)
 # The blocks of a text of one stripe.
 STRIPE = tuple(blocks.Block(v, 2, 1, 3, 4, 5, 1, 6, row[13:44]) for v, row in
                enumerate(slow_striped("hello", 2, 1, 3, 4, 6)))
+
+# A transaction's text, and what it tells.
+EDITS = (("put", "a", "x"), ("rename", "a", "b"), ("wipe",))
+TEXT = records.transaction_text(7, EDITS)
+
+# A state of a name and a label.
+STATE = states.State().grown((("put", "a", "1"), ("snapshot", "s")))
+
+# Writes, and the volume that they leave.
+WRITES = (("block", 0, ROW), ("cut", 0, 3), ("block", 0, ROW))
 
 # For each function: its parameters, then calls of it, each with what it returns or raises.
 CALLS = (
@@ -101,7 +124,66 @@ CALLS = (
             ((STRIPE[:1] * 2,), ("Beyond", {"word": "parted"})),
         ),
     ),
+    (records.is_name, ("word",), ((("a1",), True), (("1a",), False), (("",), False))),
+    (records.edit_text, ("edit",), (((("put", "a", "x"),), "put a 1\nx\n"), ((("wipe",),), "wipe\n"))),
+    (records.transaction_text, ("number", "edits"), (((7, EDITS), TEXT), ((0, ()), "tx 0 0\nend 102427745\n"))),
+    (records.read_transaction, ("text",), (((TEXT,), (7, EDITS)), (("tx",), ("BadText", {"at": 0})))),
+    (states.State, (), (((), states.State()),)),
+    (
+        states.base_edits,
+        ("state",),
+        (((STATE,), (("wipe",), ("put", "a", "1"), ("snapshot", "s"), ("wipe",), ("put", "a", "1"))),),
+    ),
+    (
+        writing.played,
+        ("writes", "many", "part"),
+        (
+            ((WRITES, 3, 0), (ROW[3:] + ROW,)),
+            ((WRITES, 2, 5), (ROW[3:] + ROW[:5],)),
+            (((), 0, 0), ()),
+            ((WRITES, 4, 0), ("BadValue", {"at": 1})),
+            ((WRITES, 3, 1), ("BadValue", {"at": 2})),
+        ),
+    ),
 )
+
+# For each class: the methods that the document lists, with their parameters.
+METHODS = {
+    blocks.Block: {"row": ()},
+    states.State: {
+        "names": (),
+        "text": ("name",),
+        "labels": (),
+        "kept": ("label",),
+        "pairs": (),
+        "edited": ("edit",),
+        "grown": ("edits",),
+    },
+    vaults.Vault: {
+        "put": ("name", "content"),
+        "append": ("name", "content"),
+        "drop": ("name",),
+        "rename": ("old", "new"),
+        "copy": ("old", "new"),
+        "snapshot": ("label",),
+        "forget": ("label",),
+        "restore": ("label",),
+        "wipe": (),
+        "working": (),
+        "pending": (),
+        "abandon": (),
+        "commit": (),
+        "state": (),
+        "writes": (),
+        "volumes": (),
+        "epoch": (),
+        "layout": (),
+        "count": (),
+        "stripes": (),
+        "transactions": (),
+        "compact": ("k", "r"),
+    },
+}
 
 
 def outcome(function, arguments, names):
@@ -173,9 +255,25 @@ class BasicsTest(unittest.TestCase):
         for function, names, _ in CALLS:
             parameters = inspect.signature(function).parameters.values()
             self.assertEqual(tuple(each.name for each in parameters), names, function)
-            self.assertEqual({each.default for each in parameters}, {inspect.Parameter.empty}, function)
+            self.assertEqual({each.default for each in parameters} - {inspect.Parameter.empty}, set(), function)
 
     def test_all_functions_are_defined_in_their_module(self):
         for function, _, _ in CALLS:
             file = code_of(function).co_filename
             self.assertTrue(file.endswith(function.__module__.replace(".", "/") + ".py"), function)
+
+    def test_all_methods_are_defined_in_their_class(self):
+        for each, methods in METHODS.items():
+            for name, names in methods.items():
+                parameters = list(inspect.signature(vars(each)[name]).parameters.values())[1:]
+                self.assertEqual(tuple(parameter.name for parameter in parameters), names, (each, name))
+                self.assertEqual({parameter.default for parameter in parameters} - {inspect.Parameter.empty}, set())
+
+    def test_classes_are_defined_in_their_module(self):
+        for each in METHODS:
+            file = code_of(each).co_filename
+            self.assertTrue(file.endswith(each.__module__.replace(".", "/") + ".py"), each)
+
+    def test_the_vault_takes_its_layout_by_name(self):
+        self.assertEqual(vaults.Vault(k=3, r=1).layout(), (3, 1))
+        self.assertEqual(tuple(inspect.signature(vaults.Vault).parameters), ("k", "r"))

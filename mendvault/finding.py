@@ -21,12 +21,17 @@ def found(piece):
 
 def gaps(piece):
     """The pairs (begin, end) of the runs that are in no block found."""
+    return runs_between(found(piece), len(piece))
+
+
+def runs_between(pairs, many):
+    """The runs of a piece of so many integers that are in none of the blocks of these pairs."""
     out = []
     begin = 0
-    for place, _ in found(piece):
+    for place, _ in pairs:
         if begin < place:
             out.append((begin, place))
         begin = place + SIZE
-    if begin < len(piece):
-        out.append((begin, len(piece)))
+    if begin < many:
+        out.append((begin, many))
     return tuple(out)

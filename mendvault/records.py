@@ -1,11 +1,12 @@
 """Edits, and the texts in which transactions are written."""
 
 from mendvault.errors import BadText
+from mendvault.figures import FIGURES, number_of
 from mendvault.limits import HIGHEST, LONGEST_NAME, MOST_CONTENT
+from mendvault.signs import symbols_of, text_of
 from mendvault.sums import text_sum
 
 LETTERS = "abcdefghijklmnopqrstuvwxyz"
-FIGURES = "0123456789"
 
 # The word of each edit, and how many words the first line of its text has.
 WORDS = {
@@ -51,14 +52,14 @@ def transaction_text(number, edits):
 def read_transaction(text):
     """The number and the edits of the transaction that has this text."""
     words, at = read_line(text, 0)
-    number = number_of(words[1], HIGHEST) if len(words) == 3 else None
-    if number is None:
+    if len(words) != 3:
         raise BadText(0)
+    number = number_up_to(words[1], HIGHEST)
     edits = []
     while text[at:at + len(END)] != END:
         edit, at = read_edit(text, at)
         edits.append(edit)
-    # This tells all the rest: the count, the sum, noughts ahead of numbers, what stands behind contents.
+    # This tells all the rest: the count, the sum, what stands behind contents.
     if transaction_text(number, edits) != text:
         raise BadText(0)
     return number, tuple(edits)
@@ -82,10 +83,11 @@ def read_edit(text, at):
         check_words(words[1:])
         return tuple(words), behind
     check_words(words[1:2])
-    size = number_of(words[2], MOST_CONTENT)
-    if size is None:
+    size = number_up_to(words[2], MOST_CONTENT)
+    content = text[behind:behind + size]
+    if text_of(symbols_of(content)) is None:
         raise BadText(0)
-    return (word, words[1], text[behind:behind + size]), behind + size + 1
+    return (word, words[1], content), behind + size + 1
 
 
 def check_words(words):
@@ -94,9 +96,9 @@ def check_words(words):
         raise BadText(0)
 
 
-def number_of(word, most):
-    """The number that the figures of the word make, if it is not above the most; otherwise None."""
-    if not 1 <= len(word) <= len(str(most)) or not all([sign in FIGURES for sign in word]):
-        return None
-    number = int(word)
-    return number if number <= most else None
+def number_up_to(word, most):
+    """The number that the word is in figures; BadText if it is none, or above the most."""
+    number = number_of(word, len(str(most)))
+    if number is None or number > most:
+        raise BadText(0)
+    return number

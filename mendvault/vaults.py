@@ -2,7 +2,7 @@
 
 from mendvault.errors import BadName, NoRoom
 from mendvault.limits import HIGHEST, MOST_CONTENT, MOST_DATA, MOST_EDITS, MOST_PARITY, MOST_SIGNS, check_ranges
-from mendvault.records import is_name, transaction_text
+from mendvault.records import WITH_CONTENT, is_name, transaction_text
 from mendvault.states import State, base_edits
 from mendvault.stripes import striped, stripes_needed
 from mendvault.writing import do_write
@@ -29,52 +29,43 @@ class Vault:
 
     def put(self, name, content):
         """The name gets the content."""
-        check_names((name,))
-        check_content(content)
-        self._add(("put", name, content))
+        self.add_edit(("put", name, content))
 
     def append(self, name, content):
         """The content goes behind what the name has."""
-        check_names((name,))
-        check_content(content)
-        self._add(("append", name, content))
+        self.add_edit(("append", name, content))
 
     def drop(self, name):
         """The name goes."""
-        check_names((name,))
-        self._add(("drop", name))
+        self.add_edit(("drop", name))
 
     def rename(self, old, new):
         """What was called old is called new."""
-        check_names((old, new))
-        self._add(("rename", old, new))
+        self.add_edit(("rename", old, new))
 
     def copy(self, old, new):
         """New gets what old has."""
-        check_names((old, new))
-        self._add(("copy", old, new))
+        self.add_edit(("copy", old, new))
 
     def snapshot(self, label):
         """The label keeps the names and their contents."""
-        check_names((label,))
-        self._add(("snapshot", label))
+        self.add_edit(("snapshot", label))
 
     def forget(self, label):
         """The label goes."""
-        check_names((label,))
-        self._add(("forget", label))
+        self.add_edit(("forget", label))
 
     def restore(self, label):
         """The names and their contents become those that the label keeps."""
-        check_names((label,))
-        self._add(("restore", label))
+        self.add_edit(("restore", label))
 
     def wipe(self):
         """All names go."""
-        self._add(("wipe",))
+        self.add_edit(("wipe",))
 
-    def _add(self, edit):
+    def add_edit(self, edit):
         """Makes the edit the last pending one."""
+        check_edit(edit)
         working = self._working.edited(edit)
         edits = self._pending + [edit]
         if len(edits) > MOST_EDITS or len(transaction_text(self.count(), edits)) > MOST_SIGNS:
@@ -99,9 +90,7 @@ class Vault:
         """Writes the transaction of the pending edits; its number."""
         # An epoch has no more transactions than stripes, so there is room for one where a stripe has it.
         number = self.count()
-        text = transaction_text(number, self._pending)
-        self._write_blocks(fitting(text, self._k, self._r, self._epoch, self._stripes, number))
-        self._transactions.append(self.pending())
+        self._write_transaction(self.pending())
         self._state = self._working
         self._pending = []
         return number
@@ -125,6 +114,13 @@ class Vault:
             if many > 0:
                 self._write(("cut", volume, many))
 
+    def _write_transaction(self, edits):
+        """Writes the edits, a tuple, as the next transaction of the epoch."""
+        number = self.count()
+        text = transaction_text(number, edits)
+        self._write_blocks(fitting(text, self._k, self._r, self._epoch, self._stripes, number))
+        self._transactions.append(edits)
+
     def _write_blocks(self, blocks):
         """Writes the blocks of a transaction."""
         for block in blocks:
@@ -134,8 +130,6 @@ class Vault:
     def _write(self, write):
         """Does the write."""
         self._writes.append(write)
-        while len(self._volumes) <= write[1]:
-            self._volumes.append([])
         do_write(self._volumes, write)
 
     def state(self):
@@ -172,15 +166,16 @@ class Vault:
         return tuple(self._transactions)
 
 
-def check_names(words):
-    """BadName for the first of the words that is no name."""
-    for word in words:
-        if not is_name(word):
-            raise BadName(word)
-
-
-def check_content(content):
-    """NoRoom if the content has too many signs."""
+def check_edit(edit):
+    """BadName for the first of its names that is none; NoRoom if its content has too many signs."""
+    names = edit[1:]
+    content = ""
+    if edit[0] in WITH_CONTENT:
+        names = edit[1:2]
+        content = edit[2]
+    for name in names:
+        if not is_name(name):
+            raise BadName(name)
     if len(content) > MOST_CONTENT:
         raise NoRoom("signs")
 
@@ -190,3 +185,14 @@ def fitting(text, k, r, epoch, stripe, number):
     if stripe + stripes_needed(len(text), k) > HIGHEST + 1:
         raise NoRoom("stripes")
     return striped(text, k, r, epoch, stripe, number)
+
+
+def resumed(k, r, epoch, transactions):
+    """A vault that began with this epoch and has just these transactions, whatever their sizes."""
+    vault = Vault(k, r)
+    vault._epoch = epoch
+    for edits in transactions:
+        vault._write_transaction(edits)
+        vault._state = vault._state.grown(edits)
+    vault._working = vault._state
+    return vault

@@ -14,14 +14,16 @@ def played(writes, many, part):
     if many < len(writes):
         word, volume, row = writes[many]
         if word == "block":
-            volumes[volume].extend(row[:part])
+            do_write(volumes, (word, volume, row[:part]))
     return tuple([tuple(volume) for volume in volumes])
 
 
 def do_write(volumes, write):
-    """Does the write to the volumes, a list of lists."""
+    """Does the write to the volumes, a list of lists; a block makes its volume if it is not there."""
     word, volume, what = write
     if word == "block":
+        while len(volumes) <= volume:
+            volumes.append([])
         volumes[volume].extend(what)
-    else:
+    elif volume < len(volumes):
         volumes[volume] = volumes[volume][what:]

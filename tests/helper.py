@@ -184,3 +184,24 @@ def spoiled(value):
         if isinstance(each, list):
             spoiled(each)
     value.append(99)
+
+
+def altered(row, **values):
+    """The block's row with other values, sealed anew."""
+    names = ("volume", "k", "r", "epoch", "stripe", "used", "last", "number", "payload")
+    numbers = [128 * row[at] + row[at + 1] for at in (4, 6, 8, 11)]
+    told = dict(zip(names, (*row[1:4], *numbers[:3], row[10], numbers[3], row[13:44])))
+    return slow_row(*{**told, **values}.values())
+
+
+def spread(rows):
+    """The volumes that these rows of blocks make, one behind the other."""
+    volumes = [()] * (1 + max(row[1] for row in rows))
+    for row in rows:
+        volumes[row[1]] += row
+    return tuple(volumes)
+
+
+def noise(random_source, many):
+    """So many integers, marks among them."""
+    return tuple(random_source.choice((128, random_source.randrange(129))) for _ in range(many))

@@ -6,10 +6,14 @@ import unittest
 
 from mendvault import (
     blocks,
+    caring,
     codes,
     errors,
     field,
     finding,
+    harms,
+    indexing,
+    opening,
     polys,
     records,
     states,
@@ -145,6 +149,41 @@ CALLS = (
             ((WRITES, 3, 1), ("BadValue", {"at": 2})),
         ),
     ),
+    (
+        indexing.index_of,
+        ("transactions", "k"),
+        ((((EDITS[:2],), 1), (("b", ((0, 0, 15, 16),)),)), (((EDITS,), 2), ()), (((), 1), ())),
+    ),
+    (
+        indexing.label_index,
+        ("transactions", "k"),
+        ((((EDITS[:1] + (("snapshot", "s"),),), 1), (("s", (("a", ((0, 0, 15, 16),)),)),)), (((), 1), ())),
+    ),
+    (
+        indexing.fetched,
+        ("pieces", "epoch", "k", "r", "spans"),
+        (
+            ((tuple(block.row() for block in STRIPE[1:]), 3, 2, 1, ((4, 0, 1, 4),)), ("ell", ((4, 1), (4, 2)))),
+            (((), 3, 2, 1, ()), ("", ())),
+            (((), 3, 2, 1, ((4, 0, 1, 4),)), ("Beyond", {"word": "lost"})),
+        ),
+    ),
+    (
+        harms.harmed,
+        ("volumes", "harms"),
+        (
+            ((((1, 2), (3,)), (("change", 0, 1, (9, 9)), ("double", 1))), ((1, 9), (3,), (3,))),
+            (((), ()), ()),
+            ((((1,),), (("lose", 0), ("lose", 1))), ("BadValue", {"at": 1})),
+        ),
+    ),
+)
+
+# The functions that return objects without a likeness: what comes of their calls is told in tests of their own.
+OTHERS = (
+    (opening.opened, ("pieces",)),
+    (caring.cared, ("volumes",)),
+    (caring.cared_for, ("vault", "rounds")),
 )
 
 # For each class: the methods that the document lists, with their parameters.
@@ -183,6 +222,7 @@ METHODS = {
         "transactions": (),
         "compact": ("k", "r"),
     },
+    opening.Found: {"mended": (), "vault": ()},
 }
 
 
@@ -198,6 +238,9 @@ def code_of(function):
     """Where the function, or what makes an object of the class, stands."""
     return (function.__init__ if inspect.isclass(function) else function).__code__
 
+
+# Each function with its parameters.
+SIGNATURES = OTHERS + tuple((function, names) for function, names, _ in CALLS)
 
 # Each call by itself: the function, its parameters, the arguments, what comes of it.
 CASES = [
@@ -252,13 +295,13 @@ class BasicsTest(unittest.TestCase):
             self.assert_same(outcome(function, arguments, {}), expected, function)
 
     def test_all_functions_take_just_these_names(self):
-        for function, names, _ in CALLS:
+        for function, names in SIGNATURES:
             parameters = inspect.signature(function).parameters.values()
             self.assertEqual(tuple(each.name for each in parameters), names, function)
             self.assertEqual({each.default for each in parameters} - {inspect.Parameter.empty}, set(), function)
 
     def test_all_functions_are_defined_in_their_module(self):
-        for function, _, _ in CALLS:
+        for function, _ in SIGNATURES:
             file = code_of(function).co_filename
             self.assertTrue(file.endswith(function.__module__.replace(".", "/") + ".py"), function)
 

@@ -226,6 +226,11 @@ class ReadTransactionTest(unittest.TestCase):
             self.assert_bad_body(f"tx 0 1\nput a {size}\n{content}\n")
             self.assert_bad_body(f"tx 0 2\nput a {size}\n{content}\nwipe\n")
 
+    def test_contents_of_what_is_no_sign(self):
+        for wrong in ("%", "\t", "\x7f", "\x00", "\r", "\u00e9"):
+            for content in (wrong, "x" + wrong + "y"):
+                self.assert_bad_body(f"tx 0 1\nput a {len(content)}\n{content}\n")
+
     def test_contents_that_look_like_edits(self):
         content = "x\nwipe\nend 0\ntx 0 1\nput a 3\n"
         self.assert_read(with_sum(f"tx 0 1\nput a {len(content)}\n{content}\n"), 0, [("put", "a", content)])

@@ -7,13 +7,17 @@ import unittest
 from mendvault import (
     blocks,
     caring,
+    checking,
     codes,
+    desk,
+    digests,
     errors,
     field,
     finding,
     harms,
     indexing,
     opening,
+    papers,
     polys,
     records,
     states,
@@ -41,6 +45,13 @@ STATE = states.State().grown((("put", "a", "1"), ("snapshot", "s")))
 
 # Writes, and the volume that they leave.
 WRITES = (("block", 0, ROW), ("cut", 0, 3), ("block", 0, ROW))
+
+# A paper of the name, which is the last of the five leaves of the state.
+LEAVES = ("wipe\n", "put a 1\n1\n", "snapshot s\n", "wipe\n", "put a 1\n1\n")
+BELONGS = f"belongs 4 5\nput a 1\n1\nby {digests.root(LEAVES[:4])}\n"
+
+# The digest of a history of one transaction without edits.
+GROWN = digests.digest(f"C1914 {digests.digest(records.transaction_text(0, ()))}")
 
 # For each function: its parameters, then calls of it, each with what it returns or raises.
 CALLS = (
@@ -177,13 +188,68 @@ CALLS = (
             ((((1,),), (("lose", 0), ("lose", 1))), ("BadValue", {"at": 1})),
         ),
     ),
+    (digests.digest, ("text",), ((("",), 7), (("a",), 1939))),
+    (digests.root, ("texts",), ((((),), 1911), ((("",),), 1918))),
+    (
+        digests.way,
+        ("texts", "at"),
+        (
+            ((("", "", ""), 0), ((1, 1918), (1, 1918))),
+            ((("",), 0), ()),
+            (((), 0), ("BadValue", {"at": 1})),
+        ),
+    ),
+    (digests.state_digest, ("state",), (((states.State(),), digests.digest("Lwipe\n")),)),
+    (digests.history, ("transactions",), ((((),), (1914,)), ((((),),), (1914, GROWN)))),
+    (
+        papers.belongs_paper,
+        ("state", "name"),
+        (((STATE, "a"), BELONGS), ((STATE, "b"), ("NothingThere", {"name": "b"}))),
+    ),
+    (
+        papers.grown_paper,
+        ("transactions", "many"),
+        ((((EDITS,), 1), "grown 1\n"), (((), 0), "grown 0\n"), (((), 1), ("BadValue", {"at": 1}))),
+    ),
+    (
+        checking.climbed,
+        ("text", "at", "many", "partners"),
+        (
+            (("", 1, 2, (1918,)), digests.root(("", ""))),
+            (("", 0, 1, ()), 1918),
+            (("", 1, 1, ()), ("BadValue", {"at": 1})),
+            (("", 0, 1, (5,)), ("BadValue", {"at": 3})),
+        ),
+    ),
+    (
+        checking.belongs_holds,
+        ("paper", "number"),
+        (((BELONGS, digests.state_digest(STATE)), ("a", "1")), ((BELONGS, 5), ("BadPaper", {"at": 0}))),
+    ),
+    (
+        checking.grown_holds,
+        ("paper", "elder", "newer"),
+        ((("grown 0\n", 5, 5), 0), (("grown 0\n", 5, 6), ("BadPaper", {"at": 0}))),
+    ),
+    (
+        checking.same_holds,
+        ("paper", "pieces", "others"),
+        (
+            ((f"same {digests.digest('Lwipe' + chr(10))}\n", ((1, 2),), ()), True),
+            (("same 1\n", (), ((128,),)), False),
+            (("", (), ()), False),
+        ),
+    ),
 )
 
-# The functions that return objects without a likeness: what comes of their calls is told in tests of their own.
+# Functions that take or return objects without a likeness: what comes of their calls is told in tests of their own.
 OTHERS = (
     (opening.opened, ("pieces",)),
     (caring.cared, ("volumes",)),
     (caring.cared_for, ("vault", "rounds")),
+    (papers.same_paper, ("vault", "other")),
+    (desk.Desk, ("k", "r")),
+    (desk.replayed, ("k", "r", "log")),
 )
 
 # For each class: the methods that the document lists, with their parameters.
@@ -223,6 +289,7 @@ METHODS = {
         "compact": ("k", "r"),
     },
     opening.Found: {"mended": (), "vault": ()},
+    desk.Desk: {"tell": ("line",), "log": ()},
 }
 
 

@@ -186,6 +186,7 @@ class BelongsTest(unittest.TestCase):
 
     def test_leaves_that_are_no_puts(self):
         for leaf in ("append a 1\nx\n", "wipe\n", "drop a\n", "snapshot a\n", "rename a b\n", "", "\n", "put a 1\nx",
+                     "put a 1\nxy", "put a 0\n ", "put a 1\nx\n ",
                      "put a 01\nx\n", "put a 1\nxy\n", "put a 2\nx\n", "put A 1\nx\n", "put  1\nx\n", "put a  1\nx\n",
                      "put a\nx\n", "put a 1 1\nx\n", "Put a 1\nx\n", "put a2345678b 1\nx\n", "put a 401\n" + "x" * 401 + "\n",
                      "put a 1\n%\n", "put a 1\n\t\n", "put a 2\n\u00e9x\n", "put a -0\n\n", "put a 1\nx\nput a 1\nx\n"):
@@ -337,7 +338,7 @@ class GrownTest(unittest.TestCase):
         self.assertEqual(len(lines), 2)
         self.assertEqual(grown_holds("\n".join([head] + lines) + "\n", told[3], told[5]), 2)
         for wrong in (
-            "\n".join([head] + lines), "\n".join([head] + lines) + "\n\n", "\n".join([head, ""] + lines) + "\n",
+            "\n".join([head] + lines), paper + "x", paper + " ", paper + lines[0], "\n".join([head] + lines) + "\n\n", "\n".join([head, ""] + lines) + "\n",
             "\n".join(lines) + "\n", "\n".join([head] + lines[:1]) + "\n", "\n".join([head] + lines[::-1]) + "\n",
             "\n".join([head] + lines + lines[:1]) + "\n", "\n".join([head] + lines) + "\nx\n",
             "\n".join([head] + lines) + "\n0\n", "\n".join([head] + lines) + " \n", "\n".join([head, " ".join(lines)]) + "\n",

@@ -256,7 +256,9 @@ class FetchTest(unittest.TestCase):
 
     def test_two_unlike_ones_at_its_place(self):
         for values in ({"payload": (70,) * 31}, {"used": 80}, {"last": 0}, {"number": 8}):
-            self.assert_beyond("parted", STRIPE + [other(0, **values)], (9, 0, 0, 1))
+            for volume in range(3):
+                self.assert_beyond("parted", STRIPE + [other(volume, **values)], (9, volume, 0, 1))
+                self.assert_beyond("parted", [STRIPE[volume], other(volume, **values)], (9, volume, 0, 1))
             self.assertEqual(self.fetch(STRIPE + [other(0, **values)], (9, 1, 0, 1)), ("b", ((9, 1),)))
 
     def test_two_alike_at_its_place(self):
